@@ -1,0 +1,1 @@
+"""Askedways: ways between houses, found by asking, with numbers by which no ring can stand."""

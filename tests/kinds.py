@@ -1,0 +1,57 @@
+"""What the tests share: nets, things of other kinds, and ways of changing a thing at one place."""
+
+BIG = int("9" * 60)
+TWO = (("a", "b"), (("a", "b"),))
+LINE = (("ann", "bob", "cyd"), (("ann", "bob"), ("bob", "cyd")))
+APART = (("ann", "bob", "cyd"), ())
+HOUSES = ("ann", "bob", "cyd", "dan", "eve")
+FULL = (HOUSES, tuple((one, other) for one in HOUSES for other in HOUSES if one < other))
+# A ring of four with a house hanging on it: pairs and no pairs among its houses.
+SQUARE = (HOUSES, (("ann", "bob"), ("ann", "dan"), ("bob", "cyd"), ("cyd", "dan"), ("dan", "eve")))
+
+
+def nested(depth):
+    """A tuple, list or dict with so many within one another."""
+    thing = "ann"
+    for at in range(depth):
+        thing = ((thing,), [thing], {"ann": thing})[at % 3]
+    return thing
+
+
+def other_kinds():
+    """Things of whatever kind that are no nets, rows, states, letters or worlds, made anew each time."""
+    return [
+        None, True, False, 0, 1, -1, 2, BIG, -BIG, "", "a", "ann", "up", "down", "ask", "ANN", "1", "\n", "~" * 60000,
+        (), (None,), (1,), ("ann",), (("ann",),), (True, 0), ("up",), ("down",), ("ask",), ("broken",), ("note",),
+        [], [None], ["ann", "bob"], [["ann", "bob"], []], [("up", 0, 0, (), (), ())],
+        {}, {"ann": 1}, {1: ("ann",)}, {("ann", "bob"): []}, nested(30), ("up", nested(29)), tuple(range(9999)),
+        ((), ()), ([], []), ({}, {}), ("", ""), (1, 2, 3, 4), ("a", "b", "c", "d", "e", "f"), ({}, [], (), None),
+    ]
+
+
+def changed_at(thing, made):
+    """All that come of thing by changing one place in it: made tells what may stand in the stead of a part."""
+    for new in made(thing):
+        yield new
+    if isinstance(thing, tuple):
+        for at, part in enumerate(thing):
+            for new in changed_at(part, made):
+                yield thing[:at] + (new,) + thing[at + 1:]
+
+
+def listed(part):
+    """A list for a tuple."""
+    return [list(part)] if isinstance(part, tuple) else []
+
+
+def odd(part):
+    """Things of other kinds for a part."""
+    return [None, True, False, -1, BIG, "", "Ann", "zoe", [], (), {}, [part], (part,), {"a": part}]
+
+
+def one_off(part):
+    """A tuple with a part too few or too many."""
+    if not isinstance(part, tuple):
+        return []
+    shorter = [part[:at] + part[at + 1:] for at in range(len(part))]
+    return shorter + [part + (None,), part + (part[-1] if part else 0,), (0,) + part]
