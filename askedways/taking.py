@@ -57,9 +57,7 @@ def takes_broken(state, house, other, letter):
         if row is not None and row[3] == other and number > row[1]:
             behind = broken_by(behind, wanted, number)
             broken.append((wanted, number))
-    if not broken:
-        return (state, [])
-    return (behind, to_ties(behind, other, ("broken", tuple(broken))))
+    return (behind, tells_broken(behind, other, broken))
 
 
 def takes_note(state, house, other, letter):
@@ -84,8 +82,13 @@ def answers(state, house, asker, wanted):
     return [(row_in(state, asker)[3], ("answer", asker, wanted, label_in(state, house, wanted)))]
 
 
+def tells_broken(state, other, broken):
+    """What tells of these broken rows, where there are some, to each tie of a state but the other house."""
+    return to_ties(state, other, ("broken", tuple(broken))) if broken else []
+
+
 def to_ties(state, other, letter):
-    """This letter to each tie of a state but the other house, in order."""
+    """This letter to each tie of a state but the other house (to all where that is None), in order."""
     return [(tie, letter) for tie in state[5] if tie != other]
 
 

@@ -1,4 +1,7 @@
-"""What the tests share: nets, things of other kinds, and ways of changing a thing at one place."""
+"""What the tests share: nets, things of other kinds, ways of changing a thing at one place, and drawn runs."""
+
+from askedways.deeds import why_not, world_behind
+from askedways.worlds import fresh_world
 
 BIG = int("9" * 60)
 TWO = (("a", "b"), (("a", "b"),))
@@ -55,3 +58,47 @@ def one_off(part):
         return []
     shorter = [part[:at] + part[at + 1:] for at in range(len(part))]
     return shorter + [part + (None,), part + (part[-1] if part else 0,), (0,) + part]
+
+
+def things_of_other_kinds_in(deed):
+    """What comes of a deed by changing it at one place, so that it is none any more."""
+    for thing in [*changed_at(deed, odd), *one_off(deed), list(deed), (deed,), [deed], {"deed": deed}]:
+        yield thing
+
+
+def deeds_in(net, world):
+    """All deeds of the net in a world, done or not, places up to one too many."""
+    for house in net[0]:
+        yield ("stop", house)
+        yield ("up", house)
+        for other in net[0]:
+            if other != house:
+                for word in ("ask", "fail", "note"):
+                    yield (word, house, other)
+    ways = sorted([pair for one, other in net[1] for pair in ((one, other), (other, one))])
+    for (other, house), letters in zip(ways, world[1]):
+        yield ("find", house, other)
+        yield ("lose", house, other)
+        for word in ("take", "drop", "twice"):
+            for place in range(len(letters) + 1):
+                yield (word, house, other, place)
+
+
+# How often a word is drawn where it can be done: asks and letters taken most, so that rows come to be.
+WEIGHTS = {"find": 8, "lose": 2, "ask": 6, "fail": 1, "note": 2, "take": 24, "drop": 1, "twice": 1, "stop": 1, "up": 5}
+
+
+def drawn_run(dice, rule, net, size, weights=WEIGHTS):
+    """A run of so many deeds, drawn among those that can be done in each world."""
+    world = fresh_world(net)
+    deeds = []
+    for at in range(size):
+        can = {}
+        for deed in deeds_in(net, world):
+            if weights.get(deed[0]) and why_not(rule, net, world, deed) is None:
+                can.setdefault(deed[0], []).append(deed)
+        word = dice.choices(list(can), [weights[word] for word in can])[0]
+        deed = dice.choice(can[word])
+        deeds.append(deed)
+        world = world_behind(rule, net, world, deed)
+    return (rule, net, tuple(deeds))

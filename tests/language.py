@@ -35,12 +35,14 @@ BARRED_NODES = {
 PLAIN = (ast.Constant, ast.List, ast.Tuple, ast.Dict, ast.UnaryOp, ast.BinOp, ast.Name, ast.Load, ast.operator,
          ast.unaryop)
 QUANTIFIERS = ("any", "all", "min", "max", "sum", "sorted")
+AT_ONCE = ("zip", "enumerate", "reversed", "range", "items", "keys", "values")
 
 
 def told_against(name, text):
     tree = ast.parse(text)
     told = on_lines(name, text)
-    for look in (on_imports, on_module_level, on_functions, on_classes, on_nodes, on_names, on_calls, on_strings):
+    for look in (on_imports, on_module_level, on_functions, on_classes, on_nodes, on_names, on_calls, on_doubles,
+                 on_strings):
         told += look(tree)
     return told
 
@@ -202,8 +204,45 @@ def on_calls(tree):
                 told.append(("L7", node.lineno))
         if isinstance(node.func, (ast.Subscript, ast.Constant)):
             told.append(("L3", node.lineno))
+        if isinstance(node.func, ast.Attribute) and node.func.attr == "sort":
+            told.append(("L25", node.lineno))
+    for node in ast.walk(tree):
+        if isinstance(node, (ast.Assign, ast.Return)) and called_name(node.value) in AT_ONCE:
+            told.append(("L23", node.lineno))
     told += [("L25", node.lineno) for node in stored if node.attr in METHODS and node not in called]
     return told
+
+
+def called_name(node):
+    """The name of the function or method that is called here, or None."""
+    if not isinstance(node, ast.Call):
+        return None
+    return getattr(node.func, "id", getattr(node.func, "attr", None))
+
+
+def on_doubles(tree):
+    """On methods that are asked by signs: they tell, and change nothing."""
+    told = []
+    for node in ast.walk(tree):
+        if isinstance(node, ast.FunctionDef) and node.name in ("__eq__", "__len__"):
+            changing = (ast.Assign, ast.AugAssign, ast.AnnAssign, ast.Delete)
+            if any(isinstance(part, changing) for part in ast.walk(node)) or not isinstance(node.body[-1], ast.Return):
+                told.append(("L28", node.lineno))
+            for part in ast.walk(node):
+                if node.name == "__len__" and isinstance(part, ast.Return) and called_name(part.value) != "len":
+                    told.append(("L28", part.lineno))
+    return told
+
+
+def names_in(tree):
+    """(methods, attributes that are assigned, attributes that are read) of a file's classes and functions."""
+    methods, assigned, read = set(), set(), set()
+    for node in ast.walk(tree):
+        if isinstance(node, ast.ClassDef):
+            methods |= {part.name for part in node.body if isinstance(part, ast.FunctionDef)}
+        if isinstance(node, ast.Attribute):
+            (assigned if isinstance(node.ctx, ast.Store) else read).add(node.attr)
+    return methods, assigned, read
 
 
 def on_strings(tree):

@@ -2,7 +2,7 @@ import ast
 import os
 import unittest
 
-from language import told_against
+from language import METHODS, names_in, told_against
 
 FOLDER = os.path.join(os.path.dirname(os.path.dirname(os.path.abspath(__file__))), "askedways")
 # Each of these breaks its rule, so that looking through the package isn't looking past it.
@@ -24,7 +24,11 @@ BARRED = (
     ("L18", "class Box:\n    def f(self):\n        return 1\n\n    def f(self):\n        return 2\n"),
     ("L19", "def f():\n    try:\n        f()\n    except Exception:\n        pass\n"),
     ("L19", "def f():\n    raise ValueError\n"), ("L20", "def f(x, y):\n    return x is y\n"),
-    ("L25", "def f(xs):\n    return xs.append\n"), ("L27", "NAME = 'a%b'\n"),
+    ("L23", "def f(xs):\n    rows = zip(xs, xs)\n    return list(rows)\n"), ("L23", "def f(d):\n    return d.items()\n"),
+    ("L25", "def f(xs):\n    return xs.append\n"), ("L25", "def f(xs):\n    xs.sort()\n"),
+    ("L28", "class Box:\n    def __len__(self):\n        return self.many\n"),
+    ("L28", "class Box:\n    def __eq__(self, other):\n        self.many = 1\n        return True\n"),
+    ("L28", "class Box:\n    def __eq__(self, other):\n        if other:\n            return True\n"), ("L27", "NAME = 'a%b'\n"),
 )
 
 
@@ -64,6 +68,21 @@ class Language(unittest.TestCase):
             self.assertTrue(free, "imports make a ring")
             for name in free:
                 del above[name]
+
+    def test_no_name_is_a_method_and_an_attribute(self):
+        methods, assigned, read = set(), set(), set()
+        for name, text in files():
+            of = names_in(ast.parse(text))
+            methods, assigned, read = methods | of[0], assigned | of[1], read | of[2]
+        self.assertEqual(methods & assigned, set())
+        self.assertEqual(read - assigned - methods - METHODS, set())
+
+    def test_each_import_is_used(self):
+        for name, text in files():
+            tree = ast.parse(text)
+            used = {node.id for node in ast.walk(tree) if isinstance(node, ast.Name)}
+            imported = {part.name for node in tree.body if isinstance(node, ast.ImportFrom) for part in node.names}
+            self.assertEqual(imported - used, set(), name)
 
     def test_what_is_barred_is_found(self):
         for rule, text in BARRED:
