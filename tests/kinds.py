@@ -102,3 +102,35 @@ def drawn_run(dice, rule, net, size, weights=WEIGHTS):
         deeds.append(deed)
         world = world_behind(rule, net, world, deed)
     return (rule, net, tuple(deeds))
+
+
+def world_with(net, tables, down=None, flights=None):
+    """A world in which each house has these rows, by houses, or is down and knows these numbers; all are tied."""
+    ways = sorted([pair for one, other in net[1] for pair in ((one, other), (other, one))])
+    states = []
+    for house in net[0]:
+        ties = tuple([other for one, other in ways if one == house])
+        states.append(("up", 1, 0, tuple(sorted(tables.get(house, ()))), (), ties))
+        if house in (down or {}):
+            states[-1] = ("down", 1, 0, tuple(sorted(down[house])))
+    return (tuple(states), tuple([tuple((flights or {}).get(way, ())) for way in ways]))
+
+
+def drawn_world(dice, net, letters=6):
+    """A world of whatever rows and letters, of no run."""
+    ways = sorted([pair for one, other in net[1] for pair in ((one, other), (other, one))])
+    tables, down, flights = {}, {}, {}
+    for house in net[0]:
+        ties = [other for one, other in ways if one == house]
+        others = [other for other in net[0] if other != house]
+        if dice.random() < 0.2:
+            down[house] = [(other, dice.randint(1, 3)) for other in others if dice.random() < 0.6]
+        rows = [(other, dice.randint(1, 3), dice.randint(1, 3), dice.choice(ties)) for other in others if ties]
+        tables[house] = [row if dice.random() < 0.9 else row[:2] + (None, None) for row in rows if dice.random() < 0.9]
+    for at in range(letters if ways else 0):
+        one, other = dice.sample(net[0], 2)
+        claim = (dice.randint(1, 3), dice.randint(0, 3))
+        flights.setdefault(dice.choice(ways), []).append(dice.choice((
+            ("ask", one, 1, other, 0, claim), ("answer", one, other, claim), ("note", one, claim),
+            ("broken", ((one, 2),)))))
+    return world_with(net, tables, down, flights)
