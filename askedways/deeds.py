@@ -5,7 +5,7 @@ from askedways.errors import NoDeed
 from askedways.letters import are_unlike
 from askedways.nets import neighbours_of, ways_of
 from askedways.shapes import is_whole_from
-from askedways.states import fresh_state
+from askedways.states import fresh_state, ties_in
 from askedways.taking import takes_letter
 from askedways.worlds import flying, state_of
 
@@ -68,7 +68,7 @@ def why_not_up(rule, net, world, house):
 
 def is_awaited(net, world, house):
     """Whether the house is still among the ties of one that is up, or a letter is on a way from it."""
-    if any([state[0] == "up" and house in state[5] for state in world[0]]):
+    if any([house in ties_in(state) for state in world[0]]):
         return True
     return any([way[0] == house and letters != () for way, letters in zip(ways_of(net), world[1])])
 

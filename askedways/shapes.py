@@ -31,6 +31,15 @@ def are_numbered(houses, thing):
     return is_rising([house for house, number in thing])
 
 
+def is_same(thing, told):
+    """Whether a thing of whatever kind is just what was told: a truth is no number, a list no tuple."""
+    if isinstance(told, (list, tuple)):
+        if isinstance(told, list) != isinstance(thing, list) or isinstance(told, tuple) != isinstance(thing, tuple):
+            return False
+        return len(thing) == len(told) and all([is_same(part, other) for part, other in zip(thing, told)])
+    return thing == told and isinstance(thing, bool) == isinstance(told, bool)
+
+
 def copied(thing):
     """A copy of plain things, down to the innermost, that nothing done to the first one changes."""
     if isinstance(thing, list):

@@ -40,6 +40,11 @@ def others_of(net, house):
     return [other for other in net[0] if other != house]
 
 
+def ties_in(state):
+    """The ties in a state: of a house that is down none."""
+    return state[5] if state[0] == "up" else ()
+
+
 def are_ties(net, house, thing):
     """Whether this is a rising tuple of neighbours of the house."""
     neighbours = neighbours_of(net, house)

@@ -134,3 +134,56 @@ def drawn_world(dice, net, letters=6):
             ("ask", one, 1, other, 0, claim), ("answer", one, other, claim), ("note", one, claim),
             ("broken", ((one, 2),)))))
     return world_with(net, tables, down, flights)
+
+
+def drawn_net(dice):
+    """A net of two to five houses with some of the pairs."""
+    houses = HOUSES[:dice.randint(2, 5)]
+    return (houses, tuple([pair for pair in FULL[1] if pair[1] in houses and dice.random() < 0.7]))
+
+
+def drawn_still_world(dice, net, more=0):
+    """A still world of no run; it has kept its numbers, but where rows may have numbers that are more."""
+    down = [house for house in net[0] if dice.random() < 0.12]
+    ties = {house: [] for house in net[0]}
+    for one, other in net[1]:
+        if one not in down and other not in down and dice.random() < 0.75:
+            ties[one].append(other)
+            ties[other].append(one)
+    own = {house: dice.randint(0, 4) for house in net[0]}
+    asks = {house: dice.randint(0, 2) for house in net[0]}
+    tables = {house: [] for house in net[0]}
+    for wanted in net[0]:
+        most = (5 if wanted in down else own[wanted]) + more
+        for row_house, row in drawn_rows(dice, net, ties, wanted, most):
+            tables[row_house].append(row)
+    states = []
+    for house in net[0]:
+        seen = [(asker, ask) for asker in net[0] for ask in range(1, asks[asker] + 1) if dice.random() < 0.5]
+        states.append(("up", own[house], asks[house], tuple(sorted(tables[house])), tuple(seen), tuple(ties[house])))
+        if house in down:
+            states[-1] = ("down", own[house], asks[house],
+                          tuple((other, 6) for other in net[0] if other != house and dice.random() < 0.5))
+    return (tuple(states), tuple([() for pair in net[1] for way in (0, 1)]))
+
+
+def drawn_rows(dice, net, ties, wanted, most):
+    """Rows for the wanted house, (house, row), each that isn't broken going on by a tie that is nearer."""
+    keys = {}
+    for house in net[0]:
+        if house != wanted and dice.random() < 0.85:
+            keys[house] = (dice.randint(1, most + 1), -dice.choice((1, 1, 2, 2, 3, 4, 9)))
+            if keys[house][0] > most:
+                keys[house] = (most + 1, -9)
+    nearer = {}
+    # Nine steps stand for None; who has no nearer tie has a broken row, which may break others.
+    for again in net[0]:
+        for house, key in keys.items():
+            nearer[house] = [tie for tie in ties[house] if tie == wanted or keys.get(tie, (0, 0)) > key]
+            if not nearer[house]:
+                keys[house] = (key[0], -9)
+    for house, (number, steps) in keys.items():
+        if steps == -9:
+            yield house, (wanted, number, None, None)
+        else:
+            yield house, (wanted, number, -steps, dice.choice(nearer[house]))

@@ -3,13 +3,12 @@ import random
 import unittest
 
 from askedways.deeds import why_not, world_behind
-from askedways.doing import asking, failing, finding, losing, noting
 from askedways.errors import NoDeed
-from askedways.nets import neighbours_of, ways_of
-from askedways.taking import takes_letter
+from askedways.nets import ways_of
 from askedways.worlds import flying, fresh_world, is_world, state_of
 from kinds import (APART, BIG, FULL, LINE, SQUARE, TWO, changed_at, deeds_in, drawn_run, listed, other_kinds,
                    things_of_other_kinds_in)
+from telling import WorldTold
 
 RULES = ("kept", "wait", "bare")
 FRESH = ("up", 0, 0, (), (), ())
@@ -327,75 +326,6 @@ class Behind(unittest.TestCase):
         self.check(WITHOUT_BOB, ("up", "bob"), {"bob": FRESH}, rules=("bare",))
 
 
-class Told:
-    """Points 12 and 13 told once more, by dicts, for comparing."""
-
-    def __init__(self, rule, net, world):
-        self.rule = rule
-        self.net = net
-        self.states = {house: state for house, state in zip(net[0], world[0])}
-        self.flights = {way: list(letters) for way, letters in zip(ways_of(net), world[1])}
-
-    def is_up(self, house):
-        return self.states[house][0] == "up"
-
-    def row(self, house, other):
-        return [row for row in self.states[house][3] if row[0] == other and row[2] is not None]
-
-    def why(self, deed):
-        word, house = deed[:2]
-        if not self.is_up(house) and word not in ("drop", "twice", "up"):
-            return "down"
-        if word == "up" and self.is_up(house):
-            return "up"
-        if word in ("find", "lose") and (deed[2] in self.states[house][5]) == (word == "find"):
-            return "tie"
-        if word in ("take", "drop", "twice") and len(self.flights[deed[2], house]) <= deed[3]:
-            return "letter"
-        if word in ("fail", "note") and not self.row(house, deed[2]):
-            return "row"
-        if word == "up" and self.rule == "wait":
-            if [one for one in self.net[0] if self.is_up(one) and house in self.states[one][5]]:
-                return "wait"
-            if [way for way in self.flights if way[0] == house and self.flights[way]]:
-                return "wait"
-        return None
-
-    def do(self, deed):
-        word, house = deed[:2]
-        state, sent = self.states[house], []
-        if word == "find":
-            state, sent = finding(state, deed[2])
-        elif word == "lose":
-            state, sent = losing(state, deed[2])
-            self.flights[deed[2], house] = []
-        elif word == "ask":
-            state, sent = asking(state, house, deed[2])
-        elif word == "fail":
-            state, sent = failing(state, deed[2])
-        elif word == "note":
-            state, sent = noting(state, deed[2])
-        elif word == "take":
-            state, sent = takes_letter(state, house, deed[2], self.flights[deed[2], house].pop(deed[3]))
-        elif word == "drop":
-            self.flights[deed[2], house].pop(deed[3])
-        elif word == "twice":
-            self.flights[deed[2], house].append(self.flights[deed[2], house][deed[3]])
-        elif word == "stop":
-            state = ("down",) + state[1:3] + (tuple((row[0], row[1] + (row[2] is not None)) for row in state[3]),)
-            for other in neighbours_of(self.net, house):
-                self.flights[other, house] = []
-        elif self.rule == "kept":
-            state = ("up",) + state[1:3] + (tuple(known + (None, None) for known in state[3]), (), ())
-        else:
-            state = FRESH
-        self.states[house] = state
-        for other, letter in sent:
-            self.flights[house, other].append(letter)
-        return (tuple(self.states[house] for house in self.net[0]),
-                tuple(tuple(self.flights[way]) for way in ways_of(self.net)))
-
-
 class AllTogether(unittest.TestCase):
     def test_as_it_is_told_once_more_in_each_world_of_drawn_runs(self):
         seen = set()
@@ -406,9 +336,9 @@ class AllTogether(unittest.TestCase):
             for deed in run[2]:
                 for other in deeds_in(net, world):
                     why = why_not(rule, net, world, other)
-                    self.assertEqual(why, Told(rule, net, world).why(other))
+                    self.assertEqual(why, WorldTold(rule, net, world).why(other))
                     seen.add((other[0], why))
-                behind = Told(rule, net, world).do(deed)
+                behind = WorldTold(rule, net, world).do(deed)
                 world = world_behind(rule, net, world, deed)
                 self.assertEqual(repr(world), repr(behind))
                 self.assertIs(is_world(net, world), True)

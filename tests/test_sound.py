@@ -10,6 +10,7 @@ from askedways.sound import faults_in, is_sound
 from askedways.ways import fall_of, ring_in, way_to
 from askedways.worlds import fresh_world, is_world, state_of
 from kinds import BIG, FULL, LINE, SQUARE, TWO, drawn_run, drawn_world, world_with
+from telling import faults_told
 
 # Bob finds cyd and notes it to ann; then it stops, and comes up with nothing, or with its numbers.
 STOPPED = (("find", "bob", "cyd"), ("find", "cyd", "bob"), ("find", "ann", "bob"), ("find", "bob", "ann"),
@@ -210,43 +211,6 @@ class Order(Faults):
                    ("down", "bob", "ann"), ("down", "bob", "eve"))
 
 
-def told_once_more(net, world):
-    """All faults by the words of point 19, each asked by itself."""
-    states = dict(zip(net[0], world[0]))
-    ways = sorted([pair for one, other in net[1] for pair in ((one, other), (other, one))])
-
-    def key(house, wanted):
-        for row in states[house][3]:
-            if row[0] == wanted:
-                return (row[1], row[2] is not None, -(row[2] or 0))
-        return (0, False, 0)
-
-    def live(house, wanted):
-        return [row for row in states[house][3] if states[house][0] == "up" and row[0] == wanted and row[2]]
-
-    claims = []
-    for way, letters in zip(ways, world[1]):
-        for place, letter in enumerate(letters):
-            if letter[0] != "broken":
-                claims.append((way, place, letter[{"ask": 1, "answer": 2, "note": 1}[letter[0]]], letter[-1]))
-    faults = []
-    for house, wanted in itertools.product(net[0], repeat=2):
-        for row in live(house, wanted):
-            if states[row[3]][0] == "up" and row[3] != wanted and key(row[3], wanted) <= (row[1], True, -row[2]):
-                faults.append(("row", house, wanted))
-    for way, place, wanted, claim in claims:
-        if states[way[0]][0] == "up" and way[0] != wanted and key(way[0], wanted) < (claim[0], True, -claim[1]):
-            faults.append(("letter",) + way + (place,))
-    for house, wanted in itertools.product(net[0], repeat=2):
-        if states[house][0] == "down" and house != wanted:
-            numbers = [row[1] for one in net[0] for row in live(one, wanted) if row[3] == house]
-            numbers += [claim[0] for way, place, of, claim in claims if of == wanted and way[0] == house]
-            known = dict(states[house][3])
-            if [number for number in numbers if wanted not in known or known[wanted] <= number]:
-                faults.append(("down", house, wanted))
-    return faults
-
-
 class AllTogether(Faults):
     def test_as_they_are_told_once_more_over_drawn_worlds(self):
         dice = random.Random(19)
@@ -254,7 +218,7 @@ class AllTogether(Faults):
         for turn in range(1500):
             net = dice.choice((TWO, LINE, SQUARE, FULL))
             world = drawn_world(dice, net)
-            faults = told_once_more(net, world)
+            faults = faults_told(net, world)
             words.update([fault[0] for fault in faults])
             self.check(world, *faults, net=net)
             # In a world without faults of rows there is no ring.

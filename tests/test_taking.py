@@ -7,6 +7,7 @@ from askedways.letters import is_letter
 from askedways.states import is_state
 from askedways.taking import takes_letter
 from kinds import BIG, FULL, HOUSES
+from telling import HouseTold
 
 # Letters are taken by bob; in FULL each two houses are neighbours.
 TIES = ("ann", "cyd", "dan")
@@ -287,79 +288,6 @@ class Notes(Taking):
             self.check(state(own=own), "ann", ("note", "bob", (9, 0)), state(own=own), [])
 
 
-class Told:
-    """Point 10 told once more, by dicts: what a house does, for comparing."""
-
-    def __init__(self, ahead, house):
-        self.own, self.asks, self.seen, self.ties = ahead[1], ahead[2], set(ahead[4]), ahead[5]
-        self.rows = {row[0]: row[1:] for row in ahead[3]}
-        self.house = house
-        self.sent = []
-
-    def label(self, of):
-        if of == self.house:
-            return (self.own, 0) if self.own else None
-        return self.rows[of][:2] if of in self.rows else None
-
-    def live(self, of):
-        return of in self.rows and self.rows[of][1] is not None
-
-    def learn(self, of, claim, other):
-        # As one key: greater numbers first, then whole ones, then fewer steps.
-        number, steps = claim[0], claim[1] + 1
-        if of == self.house:
-            return
-        if of in self.rows:
-            known = self.rows[of]
-            if (known[0], known[1] is not None, -(known[1] or 0)) >= (number, True, -steps):
-                return
-        self.rows[of] = (number, steps, other)
-
-    def ask(self, other, asker, ask, wanted, least, claim):
-        if asker == self.house:
-            return
-        self.learn(asker, claim, other)
-        late = wanted == self.house and self.own < least
-        if (asker, ask) in self.seen and not late:
-            return
-        self.seen.add((asker, ask))
-        if wanted == self.house:
-            self.own = least if least > self.own + 1 else self.own + 1
-        if not self.live(asker):
-            return
-        if wanted == self.house or (self.live(wanted) and self.rows[wanted][0] >= least):
-            self.sent.append((self.rows[asker][2], ("answer", asker, wanted, self.label(wanted))))
-            return
-        if wanted in self.rows:
-            least = max(least, self.rows[wanted][0])
-        self.tell(other, ("ask", asker, ask, wanted, least, self.label(asker)))
-
-    def answer(self, other, asker, wanted, claim):
-        self.learn(wanted, claim, other)
-        if asker != self.house and wanted != self.house and self.live(asker) and self.live(wanted):
-            self.sent.append((self.rows[asker][2], ("answer", asker, wanted, self.label(wanted))))
-
-    def broken(self, other, rows):
-        some = [(of, number) for of, number in rows
-                if self.live(of) and self.rows[of][2] == other and self.rows[of][0] < number]
-        for of, number in some:
-            self.rows[of] = (number, None, None)
-        if some:
-            self.tell(other, ("broken", tuple(some)))
-
-    def note(self, other, wanted, claim):
-        self.learn(wanted, claim, other)
-
-    def tell(self, other, letter):
-        self.sent += [(tie, letter) for tie in self.ties if tie != other]
-
-    def take(self, other, letter):
-        if other in self.ties:
-            getattr(self, letter[0])(other, *letter[1:])
-        table = tuple((of,) + self.rows[of] for of in sorted(self.rows))
-        return (("up", self.own, self.asks, table, tuple(sorted(self.seen)), self.ties), self.sent)
-
-
 def any_state(dice, house):
     others = [other for other in HOUSES if other != house]
     ties = tuple(other for other in others if dice.random() < 0.7)
@@ -397,7 +325,7 @@ class AllTogether(unittest.TestCase):
             kept = copy.deepcopy((ahead, letter))
             told = takes_letter(ahead, house, other, letter)
             self.assertEqual((ahead, letter), kept)
-            self.assertEqual(repr(told), repr(Told(ahead, house).take(other, letter)))
+            self.assertEqual(repr(told), repr(HouseTold(ahead, house).take(other, letter)))
             self.well_made(ahead, house, told)
 
     def well_made(self, ahead, house, told):
