@@ -1,5 +1,7 @@
 """The document told once more, by its words and in other ways than the package's, which it never asks: for comparing."""
 
+import re
+
 FRESH = ("up", 0, 0, (), (), ())
 
 
@@ -406,3 +408,206 @@ def all_worlds_told(run, doings, overtake, most):
                 return None
             waiting += [(behind, rest) for deed, behind, rest in steps_told(rule, net, world, left, overtake)]
     return found
+
+
+def search_told(run, doings, overtake, most):
+    """Point 28: ("ring", how few deeds), ("none", all worlds), or None where there are more than most."""
+    found = all_worlds_told(run, doings, overtake, most)
+    if found is None:
+        return None
+    rule, net, deeds = run
+    reached = {(worlds_told(run)[-1], doings)}
+    for many in range(len(found) + 1):
+        if [world for world, left in reached if has_ring(net, world)]:
+            return ("ring", many)
+        reached = {step[1:] for world, left in reached for step in steps_told(rule, net, world, left, overtake)}
+    return ("none", found)
+
+
+def lets_told(run, doings, paper, overtake):
+    """Point 28: whether a paper, of a ring by a tuple of deeds or of none by a list of (world, left), is right."""
+    rule, net, deeds = run
+    first = (worlds_told(run)[-1], doings)
+    if paper[0] == "ring":
+        for deed in paper[1]:
+            steps = {step[0]: step[1:] for step in steps_told(rule, net, first[0], first[1], overtake)}
+            if deed not in steps:
+                return False
+            first = steps[deed]
+        return has_ring(net, first[0])
+    if first not in paper[1] or len(set(paper[1])) < len(paper[1]):
+        return False
+    for world, left in paper[1]:
+        if has_ring(net, world) or list(left) != [doing for doing in doings if doing in left]:
+            return False
+        if not {step[1:] for step in steps_told(rule, net, world, left, overtake)} <= set(paper[1]):
+            return False
+    return True
+
+
+def words(*parts):
+    return " ".join(["-" if part is None else str(part) for part in parts])
+
+
+def net_lines(net):
+    """Point 30: the lines of a net."""
+    return [words("house", house) for house in net[0]] + [words("pair", *pair) for pair in net[1]]
+
+
+def state_lines(house, state):
+    """Point 30: the lines of a state."""
+    lines = [words(house, *state[:3])]
+    if state[0] == "down":
+        return lines + [words("known", *known) for known in state[3]]
+    lines += [words("tie", tie) for tie in state[5]]
+    lines += [words("row", *row) for row in state[3]]
+    return lines + [words("seen", *seen) for seen in state[4]]
+
+
+def letter_line(letter):
+    """Point 30: a letter."""
+    if letter[0] == "broken":
+        return "broken " + " ".join([f"{house}:{number}" for house, number in letter[1]])
+    return words(*letter[:-1], *letter[-1])
+
+
+def world_lines(net, world):
+    """Point 30: the lines of a world."""
+    lines = [line for house, state in zip(net[0], world[0]) for line in state_lines(house, state)]
+    for way, letters in zip(ways_in(net), world[1]):
+        lines += [words("way", *way, letter_line(letter)) for letter in letters]
+    return lines
+
+
+def run_lines(run):
+    """Point 30: the lines of a run."""
+    return net_lines(run[1]) + [words("rule", run[0])] + [words(*deed) for deed in run[2]]
+
+
+def judged(text, begun, may_stand, is_whole):
+    """Point 31: the number of the line at which a text can't go on, or None, line by line.
+
+    May_stand tells what has come of begun behind one line more, or None; is_whole whether no line lacks."""
+    lines = text.split("\n")
+    for at, line in enumerate(lines[:-1]):
+        begun = may_stand(begun, line.split(" "))
+        if begun is None:
+            return at
+    if lines[-1] or not is_whole(begun):
+        return len(lines) - 1
+    return None
+
+
+NUMBER = re.compile(r"(0|[1-9][0-9]{0,999})\Z")
+NAME = re.compile(r"[a-z]{1,8}\Z")
+
+
+def judged_net(text):
+    """Of a net: begun is the last line's words, and the houses ahead."""
+    return judged(text, ((), ()), net_goes_on, lambda begun: len(begun[1]) >= 2)
+
+
+def net_goes_on(begun, row):
+    last, houses = begun
+    if row[0] == "house" and len(row) == 2 and NAME.match(row[1]) and len(houses) < 5 and last[:1] in ((), ("house",)):
+        return (tuple(row), houses + (row[1],)) if not houses or houses[-1] < row[1] else None
+    if row[0] == "pair" and len(row) == 3 and len(houses) > 1 and row[1] < row[2] and {*row[1:]} <= {*houses}:
+        return (tuple(row), houses) if last[0] == "house" or last < tuple(row) else None
+    return None
+
+
+def judged_run(text):
+    """Of a run: begun is that of its net, or, behind its rule, a world by that rule and how many deeds were done."""
+    return judged(text, ((), (), ()), run_goes_on, lambda begun: isinstance(begun[0], WorldTold))
+
+
+def run_goes_on(begun, row):
+    if isinstance(begun[0], WorldTold):
+        told, done = begun
+        deed = deed_told(row)
+        if deed is None or done == 60 or not is_of_net(told.net, deed) or told.why(deed) is not None:
+            return None
+        told.do(deed)
+        return (told, done + 1)
+    last, houses, pairs = begun
+    if row[0] == "rule" and len(row) == 2 and row[1] in ("kept", "wait", "bare") and len(houses) > 1:
+        net = (houses, pairs)
+        return (WorldTold(row[1], net, worlds_told((row[1], net, ()))[0]), 0)
+    on = net_goes_on((last, houses), row)
+    return on and on + (pairs + (tuple(row[1:]),) if row[0] == "pair" else pairs,)
+
+
+def deed_told(row):
+    """Point 30: the deed of these words, of whatever names, or None."""
+    forms = {"find": "nn", "lose": "nn", "ask": "nn", "fail": "nn", "note": "nn", "take": "nn#", "drop": "nn#",
+             "twice": "nn#", "stop": "n", "up": "n"}
+    form = forms.get(row[0])
+    if form is None or len(form) != len(row) - 1:
+        return None
+    if not all([(NAME if kind == "n" else NUMBER).match(word) for kind, word in zip(form, row[1:])]):
+        return None
+    return tuple(row[:3]) + tuple([int(word) for word in row[3:]])
+
+
+def is_of_net(net, deed):
+    """Point 12: whether such a tuple is a deed of the net."""
+    if not {*deed[1:3]} <= {*net[0]} or len({*deed[1:3]}) != len(deed[1:3]):
+        return False
+    return deed[0] in ("ask", "fail", "note", "stop", "up") or tuple(deed[1:3]) in ways_in(net)
+
+
+def judged_world(net, text):
+    """Of a world: begun is how many houses have begun, and what the last of them, or the ways, have so far."""
+    return judged(text, (0, None, ()), lambda begun, row: world_goes_on(net, begun, row), lambda begun: begun[0] == len(net[0]))
+
+
+def world_goes_on(net, begun, row):
+    many, word, ahead = begun
+    house = net[0][many - 1]
+    if len(row) == 4:
+        is_head = many < len(net[0]) and row[0] == net[0][many] and row[1] in ("up", "down")
+        return (many + 1, row[1], ()) if is_head and NUMBER.match(row[2]) and NUMBER.match(row[3]) else None
+    if len(row) > 4 and row[0] == "way" and many == len(net[0]):
+        way = tuple(row[1:3])
+        fits = way in ways_in(net) and letter_fits(net, row[3:]) and (word != "way" or ahead <= way)
+        return (many, "way", way) if fits else None
+    if many == 0 or word not in ("up", "down"):
+        return None
+    # In the order in which they come, each kind of line behind the ones ahead of it, and rising.
+    parts = line_parts(net, house, word, ahead, row)
+    if parts is None or [part for part in ahead if part[0] > parts[0] or (part[0] == parts[0] and part[1] >= parts[1])]:
+        return None
+    return (many, word, ahead + (parts,))
+
+
+def line_parts(net, house, word, ahead, row):
+    """Of a line of a state: which kind of line it is, and by what such lines rise; None where it is none."""
+    ties = [part[1] for part in ahead if part[0] == 0]
+    if word == "up" and row[0] == "tie" and len(row) == 2 and (house, row[1]) in ways_in(net):
+        return (0, row[1])
+    if word == "up" and row[0] == "row" and len(row) == 5 and row[1] in net[0] and row[1] != house and is_from_one(row[2]):
+        return (1, row[1]) if row[3:] == ["-", "-"] or (is_from_one(row[3]) and row[4] in ties) else None
+    if word == "up" and row[0] == "seen" and len(row) == 3 and row[1] in net[0] and is_from_one(row[2]):
+        return (2, (row[1], int(row[2])))
+    if word == "down" and row[0] == "known" and len(row) == 3 and row[1] in net[0] and row[1] != house and is_from_one(row[2]):
+        return (0, row[1])
+    return None
+
+
+def is_from_one(word):
+    return bool(NUMBER.match(word)) and word != "0"
+
+
+def letter_fits(net, row):
+    """Point 30: whether these words are a letter of the net."""
+    houses = "(" + "|".join(net[0]) + ")"
+    one, any_number = "[1-9][0-9]{0,999}", "(0|[1-9][0-9]{0,999})"
+    text = " ".join(row)
+    for form in (f"ask {houses} {one} (?!\\1 ){houses} {any_number} {one} {any_number}",
+                 f"answer {houses} (?!\\1 ){houses} {one} {any_number}", f"note {houses} {one} {any_number}"):
+        if re.fullmatch(form, text):
+            return True
+    parts = [part.split(":") for part in row[1:]]
+    names = [part[0] for part in parts]
+    return row[0] == "broken" and bool(parts) and names == sorted(set(names)) and {*names} <= {*net[0]} and all(
+        [len(part) == 2 and is_from_one(part[1]) for part in parts])
