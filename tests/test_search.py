@@ -149,6 +149,27 @@ class RingRun(unittest.TestCase):
         self.assertGreater(min([counts[rule, "none"] for rule in RULES]), 10)
 
 
+    def test_over_drawn_doings_where_rings_come(self):
+        rings = set()
+        more = (("stop", "bob"), ("lose", "cyd", "bob"), ("lose", "ann", "bob"), ("find", "bob", "cyd"), ("fail", "ann", "cyd"), ("stop", "ann"),
+                ("up", "ann"), ("ask", "ann", "cyd"), ("note", "bob", "cyd"))
+        for at in range(60):
+            dice = random.Random(at)
+            run = run_of("bare", LINE, STOPPED[:dice.choice((9, 10, 10))] if at % 3 else STOPPED + ANEW[:dice.randint(1, 3)])
+            doings = [doing for doing in ANEW + more if dice.random() < (0.8 if doing in ANEW else 0.15)][:5]
+            doings, overtake = tuple(dice.sample(doings, len(doings))), at % 2 == 1
+            if all_worlds_told(run, doings, overtake, 300) is None:
+                self.refuse(300, run, doings, overtake=overtake)
+                continue
+            word, found = self.check(run, doings, overtake=overtake)
+            rings.add(len(found) if word == "ring" else None)
+            # By "kept" and by "wait", where the deeds can be done, there is none.
+            kept = run_of("kept", LINE, run[2])
+            if all_worlds_told(kept, doings, overtake, 300) is not None:
+                self.assertEqual(self.check(kept, doings, overtake=overtake)[0], "none")
+        self.assertLessEqual({None, 1, 2, 3, 4, 5}, rings)
+
+
 class LetsRing(unittest.TestCase):
     def check(self, answer, deeds, run=STOP, doings=ANEW, **given):
         kept = copy.deepcopy(deeds)
